@@ -1,0 +1,1 @@
+"""Valleytree: the least of any stretch, the tree of lesser numbers, and skylines."""
