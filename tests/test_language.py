@@ -78,6 +78,12 @@ def top_names(tree):
     return found
 
 
+def defined_names(tree):
+    """The names of the file's top that it doesn't draw from another file."""
+    drawn = [part.asname or part.name for node in tree.body if isinstance(node, ast.ImportFrom) for part in node.names]
+    return [name for name in top_names(tree) if name not in drawn]
+
+
 def own_methods(tree):
     classes = [node for node in ast.walk(tree) if isinstance(node, ast.ClassDef)]
     return {part.name for node in classes for part in node.body if isinstance(part, ast.FunctionDef)}
@@ -277,9 +283,8 @@ class PackageTest(unittest.TestCase):
                 if isinstance(node, ast.ImportFrom):
                     source = node.module.removeprefix("valleytree.")
                     draws[name].add(source)
-                    defined = [part.name for part in self.trees[source].body if hasattr(part, "name")]
                     for part in node.names:
-                        self.assertIn(part.name, defined)
+                        self.assertIn(part.name, defined_names(self.trees[source]))
         while draws:
             free = [name for name in draws if not draws[name] & set(draws)]
             self.assertTrue(free, "files draw from one another")

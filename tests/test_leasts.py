@@ -1,12 +1,11 @@
 """Points [3], [4] and [5]: the least of stretches, nearest lesser numbers, and all leasts together."""
 
-import random
 import unittest
 
 from valleytree.leasts import least, lesser_ahead, lesser_behind, stretches_from, sum_of_leasts
-from valleytree.rows import Row, joined
+from valleytree.rows import Row
 
-from tests.helpers import GREAT, check_leasts, do_some_deed, sample_lists
+from tests.helpers import GREAT, check_behind_deeds, check_leasts, check_long_runs, sample_lists
 
 
 class LeastTest(unittest.TestCase):
@@ -86,30 +85,11 @@ class HeldAgainstLooksTest(unittest.TestCase):
                 rows.extend([numbers + [number] for number in (-1, 0, 1)])
 
     def test_behind_each_deed(self):
-        row = Row([4, 2, 2, 7, -1])
-        check_leasts(self, row, [4, 2, 2, 7, -1])
-        row.set_at(4, 3)
-        check_leasts(self, row, [4, 2, 2, 7, 3])
-        row.put_in(1, -6)
-        check_leasts(self, row, [4, -6, 2, 2, 7, 3])
-        row.add_to(1, 3, 5)
-        check_leasts(self, row, [4, -1, 7, 2, 7, 3])
-        row.take_out(1)
-        check_leasts(self, row, [4, 7, 2, 7, 3])
-        ahead, rest = row.cut(2)
-        check_leasts(self, ahead, [4, 7])
-        check_leasts(self, rest, [2, 7, 3])
-        check_leasts(self, joined(rest, ahead), [2, 7, 3, 4, 7])
-        check_leasts(self, row, [4, 7, 2, 7, 3])
+        for lowest in (-6, 0):
+            check_behind_deeds(self, check_leasts, lowest)
 
     def test_behind_each_deed_of_long_runs(self):
-        for seed in range(6):
-            chance = random.Random(100 + seed)
-            plain = []
-            row = Row(plain)
-            for step in range(120):
-                row, plain = do_some_deed(self, chance, row, plain)
-                check_leasts(self, row, plain)
+        check_long_runs(self, check_leasts, range(100, 106), 120)
 
 
 if __name__ == "__main__":

@@ -35,20 +35,21 @@ def lesser_behind(row):
     return [nearest_behind(numbers, place) for place in range(len(numbers))]
 
 
-# A stretch's least follows from that of the stretch one shorter, so no stretch is walked anew.
+# Each stretch's least with its two places. It follows from the least of the stretch one shorter, so no stretch is
+# walked anew.
 def all_leasts(numbers):
     found = []
     for first in range(len(numbers)):
         lowest = numbers[first]
-        for number in numbers[first:]:
-            lowest = min(lowest, number)
-            found.append(lowest)
+        for place in range(first, len(numbers)):
+            lowest = min(lowest, numbers[place])
+            found.append((lowest, first, place + 1))
     return found
 
 
 def sum_of_leasts(row):
-    return sum(all_leasts(row.numbers()))
+    return sum([told[0] for told in all_leasts(row.numbers())])
 
 
 def stretches_from(row, number):
-    return len([lowest for lowest in all_leasts(row.numbers()) if lowest >= number])
+    return len([told for told in all_leasts(row.numbers()) if told[0] >= number])
